@@ -1,0 +1,183 @@
+package litmus_test
+
+import (
+	"fmt"
+	"testing"
+
+	"litmus/api"
+	"litmus/litmus"
+)
+
+// roomy copies a test into lists with spare room, which is filled.
+func roomy(x api.Test) api.Test {
+	y := api.Test{Forall: x.Forall}
+	for _, l := range x.Threads {
+		c := append(append(code{}, l...), times(8, api.Instr{Op: 70, Loc: 71, Reg: 72, Val: 73, Mode: 74})...)
+		y.Threads = append(y.Threads, c[:len(l)])
+	}
+	n := len(y.Threads)
+	y.Threads = append(y.Threads, code{wrong}, code{wrong})[:n]
+	y.Cond = append(append([]api.Atom{}, x.Cond...), api.Atom{Val: 75}, api.Atom{Val: 76})[:len(x.Cond)]
+	return y
+}
+
+// wholly tells a test with all the spare room of its lists.
+func wholly(x api.Test) string {
+	s := fmt.Sprint(x.Forall, len(x.Threads), len(x.Cond), x.Cond[:cap(x.Cond)])
+	for _, l := range x.Threads[:cap(x.Threads)] {
+		s += fmt.Sprint(len(l), l[:cap(l)])
+	}
+	return s
+}
+
+func TestNothingHandedInIsWritten(t *testing.T) {
+	l := samples()
+	l = append(l, asking(threads(code{load(0, 0)}), api.Atom{}, api.Atom{Thread: -1, At: 2}))
+	l = append(l, threads(code{wrong}), threads(code{enter}), asking(threads(nil), api.Atom{Val: 9}), threads(times(7, store(0, 0))), threads(times(13, full)))
+	for _, x := range l {
+		y := roomy(x)
+		before := wholly(y)
+		for _, n := range []int{-1, 0, 1, 17, 719, most} {
+			callAll(y, n, api.Exec{})
+		}
+		if after := wholly(y); after != before {
+			t.Errorf("P2: a test has become\n%s, it was\n%s", after, before)
+		}
+	}
+}
+
+// answers tells all that the calls answer of a test, as text.
+func answers(x api.Test) string {
+	e, at := litmus.Check(x)
+	l, e2 := litmus.Events(x)
+	n, e3 := litmus.Size(x)
+	s := fmt.Sprint(e, at, l, e2, n, e3)
+	for _, i := range []int{-1, 0, 1, n / 2, n - 1, n} {
+		c, e := litmus.Candidate(x, i)
+		s += fmt.Sprint(c, e)
+	}
+	return s
+}
+
+// given: all lists that came out of some calls.
+type given struct {
+	events [][]api.Event
+	ints   [][]int
+	orders [][][]int
+}
+
+func (g *given) ask(x api.Test) {
+	l, _ := litmus.Events(x)
+	g.events = append(g.events, l)
+	size, _ := litmus.Size(x)
+	for _, n := range []int{0, 0, 1, size - 1} {
+		c, e := litmus.Candidate(x, n)
+		if e == api.OK {
+			g.ints = append(append(g.ints, c.From), c.Order...)
+			g.orders = append(g.orders, c.Order)
+		}
+	}
+}
+
+// fill writes into each list and its spare room the list's own number.
+func (g *given) fill() {
+	for k, l := range g.events {
+		for i := range l[:cap(l)] {
+			l[:cap(l)][i].Place = k + 1000
+		}
+	}
+	for k, l := range g.ints {
+		for i := range l[:cap(l)] {
+			l[:cap(l)][i] = k + 1000
+		}
+	}
+	for k, l := range g.orders {
+		for i := range l[:cap(l)] {
+			l[:cap(l)][i] = []int{k + 1000}
+		}
+	}
+}
+
+// filled tells how many entries are written, and whether each still holds what fill has written there.
+func (g *given) filled() (int, bool) {
+	n, own := 0, true
+	for k, l := range g.events {
+		for _, e := range l[:cap(l)] {
+			own = own && e.Place == k+1000
+			n++
+		}
+	}
+	for k, l := range g.ints {
+		for _, e := range l[:cap(l)] {
+			own = own && e == k+1000
+			n++
+		}
+	}
+	for k, l := range g.orders {
+		for _, e := range l[:cap(l)] {
+			own = own && len(e) == 1 && e[0] == k+1000
+			n++
+		}
+	}
+	return n, own
+}
+
+func TestWhatComesOutIsTheCallers(t *testing.T) {
+	var before []string
+	for _, x := range samples() {
+		before = append(before, answers(x))
+	}
+	var g given
+	for _, x := range samples() {
+		g.ask(x)
+	}
+	g.fill()
+	if n, own := g.filled(); n < 100 || !own {
+		t.Errorf("P2: lists share memory (%d entries)", n)
+	}
+	for i, x := range samples() {
+		if after := answers(x); after != before[i] {
+			t.Errorf("P2: answers have become\n%s, they were\n%s", after, before[i])
+		}
+	}
+	if _, own := g.filled(); !own {
+		t.Errorf("P2: a later call has changed what came out earlier")
+	}
+}
+
+func TestNothingHandedInIsKept(t *testing.T) {
+	x := roomy(threads(code{store(0, 1), swap(0, 0, 2)}, code{load(0, 0)}))
+	l, _ := litmus.Events(x)
+	c, _ := litmus.Candidate(x, 7)
+	before := fmt.Sprint(l, c)
+	same := answers(threads(code{store(0, 1), swap(0, 0, 2)}, code{load(0, 0)}))
+	for _, instrs := range x.Threads {
+		for i := range instrs[:cap(instrs)] {
+			instrs[:cap(instrs)][i] = load(2, 2)
+		}
+	}
+	if after := fmt.Sprint(l, c); after != before {
+		t.Errorf("P2: what came out has become %s, it was %s", after, before)
+	}
+	if again := answers(threads(code{store(0, 1), swap(0, 0, 2)}, code{load(0, 0)})); again != same {
+		t.Errorf("P2: answers have become %s, they were %s", again, same)
+	}
+}
+
+// What a call answers must not hang on the calls ahead of it, be it of other tests.
+func TestAnswersDependOnArgumentsAlone(t *testing.T) {
+	l := samples()
+	first := make([]string, len(l))
+	for i := range l {
+		first[i] = answers(l[i])
+	}
+	for i := len(l) - 1; i >= 0; i-- {
+		litmus.Check(threads(code{wrong}))
+		y := roomy(l[i])
+		y.Forall = true
+		y.Cond = []api.Atom{{Thread: -1, At: 1, Val: 1}}
+		if s := answers(y); s != first[i] {
+			t.Errorf("P2: answers are %s, they were %s", s, first[i])
+		}
+	}
+}
