@@ -1,6 +1,9 @@
 package litmus_test
 
-import "litmus/api"
+import (
+	"litmus/api"
+	"litmus/litmus"
+)
 
 type code = []api.Instr
 
@@ -79,4 +82,13 @@ func samples() []api.Test {
 		threads(code{load(0, 0), load(0, 0), load(0, 0)}, times(3, store(0, 0))),
 		threads(code{swap(0, 1, 1), swap(1, 1, 2), swap(2, 1, 3)}),
 	}
+}
+
+// eventsOf tells the events of a test that may be.
+func eventsOf(x api.Test) []api.Event {
+	l, e := litmus.Events(x)
+	if e != api.OK {
+		panic("a test that may not be")
+	}
+	return l
 }

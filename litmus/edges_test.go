@@ -38,8 +38,10 @@ func wildTests() []api.Test {
 // wildExecs: executions of hardly any test.
 func wildExecs() []api.Exec {
 	l := []api.Exec{{}, {From: []int{}, Order: [][]int{}}, {Order: make([][]int, 3)}, {Order: make([][]int, 1000)}, {From: make([]int, 1000)}}
+	l = append(l, exec(nil, make([]int, 1000), make([]int, 1000), make([]int, 1000)))
 	for _, n := range extremes {
-		l = append(l, api.Exec{From: []int{n}, Order: make([][]int, 3)}, api.Exec{From: []int{-1, n}, Order: [][]int{{n}, {0, n}, nil}})
+		l = append(l, exec([]int{n}, nil, nil, nil), exec([]int{-1, n}, []int{n}, []int{0, n}, nil))
+		l = append(l, exec([]int{n, n}, []int{n}, []int{n}, []int{n}), exec([]int{-1, n}, []int{0}, []int{2}, nil), exec([]int{-1, -1}, []int{n}, []int{2}, nil))
 	}
 	return l
 }
@@ -93,6 +95,11 @@ func TestErrorsAnswerNothingElse(t *testing.T) {
 		for _, n := range extremes {
 			if c, e := litmus.Candidate(x, n); e != want || c.From != nil || c.Order != nil {
 				t.Errorf("P1, P5: %v: Candidate(%d) = %v, %d, want %d", x, n, c, e, want)
+			}
+		}
+		for _, c := range wildExecs() {
+			if j, e := litmus.Judge(x, c); e != want || j != 0 {
+				t.Errorf("P1, P6: %v: Judge of %v = %d, %d, want %d", x, c, j, e, want)
 			}
 		}
 	}

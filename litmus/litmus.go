@@ -6,6 +6,7 @@ import (
 	"litmus/candidates"
 	"litmus/check"
 	"litmus/events"
+	"litmus/judge"
 )
 
 // Check tells whether a test may be, and where it may not (P3).
@@ -44,7 +45,17 @@ func Candidate(t api.Test, n int) (api.Exec, api.Errno) {
 }
 
 // Judge tells whether an execution is allowed, and if not, why not (P6 to P9, P13).
-func Judge(t api.Test, x api.Exec) (int, api.Errno) { return 0, api.OK }
+func Judge(t api.Test, x api.Exec) (int, api.Errno) {
+	fault := check.Find(t)
+	if fault.Err != api.OK {
+		return 0, fault.Err
+	}
+	list := events.List(t.Threads)
+	if !candidates.Has(list, x) {
+		return 0, api.ErrExec
+	}
+	return judge.Of(t.Threads, list, x), api.OK
+}
 
 // State tells what registers and locations hold behind an allowed execution (P10).
 func State(t api.Test, x api.Exec) ([]int, api.Errno) { return nil, api.OK }

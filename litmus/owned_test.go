@@ -30,6 +30,54 @@ func wholly(x api.Test) string {
 	return s
 }
 
+// roomyExec copies an execution into lists with spare room, which is filled.
+func roomyExec(c api.Exec) api.Exec {
+	room := func(l []int) []int { return append(append([]int{}, l...), 0, 1, 2, -1, 77)[:len(l)] }
+	d := api.Exec{From: room(c.From)}
+	for _, l := range c.Order {
+		d.Order = append(d.Order, room(l))
+	}
+	d.Order = append(d.Order, []int{78}, []int{79})[:len(c.Order)]
+	return d
+}
+
+// whollyExec tells an execution with all the spare room of its lists.
+func whollyExec(c api.Exec) string {
+	s := fmt.Sprint(len(c.From), c.From[:cap(c.From)], len(c.Order))
+	for _, l := range c.Order[:cap(c.Order)] {
+		s += fmt.Sprint(len(l), l[:cap(l)])
+	}
+	return s
+}
+
+// An execution that is handed in, be it one of the test or not, is as it was, and so is its spare room, and what stands there changes nothing.
+func TestNoExecutionHandedInIsWritten(t *testing.T) {
+	for _, x := range samples() {
+		l := wildExecs()
+		size, _ := litmus.Size(x)
+		for n := 0; n < size; n += 1 + size/10 {
+			c, _ := litmus.Candidate(x, n)
+			l = append(l, c)
+		}
+		for _, c := range l {
+			d := roomyExec(c)
+			before := whollyExec(d)
+			j, e := litmus.Judge(x, c)
+			y := roomy(x)
+			test := wholly(y)
+			if j2, e2 := litmus.Judge(y, d); j2 != j || e2 != e {
+				t.Errorf("P2: %v: Judge of %v = %d, %d; with spare room %d, %d", x.Threads, c, j, e, j2, e2)
+			}
+			if after := whollyExec(d); after != before {
+				t.Errorf("P2: an execution has become\n%s, it was\n%s", after, before)
+			}
+			if after := wholly(y); after != test {
+				t.Errorf("P2: a test has become\n%s, it was\n%s", after, test)
+			}
+		}
+	}
+}
+
 func TestNothingHandedInIsWritten(t *testing.T) {
 	l := samples()
 	l = append(l, asking(threads(code{load(0, 0)}), api.Atom{}, api.Atom{Thread: -1, At: 2}))
@@ -54,7 +102,8 @@ func answers(x api.Test) string {
 	s := fmt.Sprint(e, at, l, e2, n, e3)
 	for _, i := range []int{-1, 0, 1, n / 2, n - 1, n} {
 		c, e := litmus.Candidate(x, i)
-		s += fmt.Sprint(c, e)
+		j, e2 := litmus.Judge(x, c)
+		s += fmt.Sprint(c, e, j, e2)
 	}
 	return s
 }
@@ -161,6 +210,28 @@ func TestNothingHandedInIsKept(t *testing.T) {
 	}
 	if again := answers(threads(code{store(0, 1), swap(0, 0, 2)}, code{load(0, 0)})); again != same {
 		t.Errorf("P2: answers have become %s, they were %s", again, same)
+	}
+}
+
+// An execution that is overwritten after Judge has seen it changes no later answer.
+func TestNoExecutionHandedInIsKept(t *testing.T) {
+	x := threads(code{swap(0, 0, 1)}, code{swap(0, 0, 2)})
+	want := []int{torn, torn, allowed, incoherent}
+	for round := 0; round < 2; round++ {
+		for n := range want {
+			c, _ := litmus.Candidate(x, n)
+			if j, e := litmus.Judge(x, c); j != want[n] || e != api.OK {
+				t.Errorf("P2: Judge of candidate %d = %d, %d, want %d", n, j, e, want[n])
+			}
+			for i := range c.From {
+				c.From[i] = 99
+			}
+			c.Order[0][0] = 99
+			c.Order[2] = []int{99}
+			if j, e := litmus.Judge(x, c); j != 0 || e != api.ErrExec {
+				t.Errorf("P2: Judge of an overwritten candidate = %d, %d, want ErrExec", j, e)
+			}
+		}
 	}
 }
 

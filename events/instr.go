@@ -1,0 +1,36 @@
+package events
+
+import "litmus/api"
+
+// None is the number of no event.
+const None = -1
+
+// InstrOf tells the instruction that gave an event.
+func InstrOf(threads [][]api.Instr, event api.Event) api.Instr {
+	if event.Thread < 0 || event.Thread >= len(threads) {
+		return api.Instr{}
+	}
+	instrs := threads[event.Thread]
+	if event.Place < 0 || event.Place >= len(instrs) {
+		return api.Instr{}
+	}
+	return instrs[event.Place]
+}
+
+// LastRead tells the last of a thread's Reads into a register among the events below a number; None if there is none. list: the events of the threads.
+func LastRead(threads [][]api.Instr, list []api.Event, thread int, reg int, below int) int {
+	last := None
+	for i, event := range list {
+		if i >= below {
+			break
+		}
+		if event.Thread != thread || event.Kind != api.Read {
+			continue
+		}
+		instr := InstrOf(threads, event)
+		if instr.Reg == reg {
+			last = i
+		}
+	}
+	return last
+}
