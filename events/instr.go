@@ -34,3 +34,17 @@ func LastRead(threads [][]api.Instr, list []api.Event, thread int, reg int, belo
 	}
 	return last
 }
+
+// Sources tells, event by event, from which Write it reads; None if it is no Read, or reads what was held at first. from: the same read by read.
+func Sources(list []api.Event, from []int) []int {
+	all := make([]int, len(list))
+	reads := 0
+	for i, event := range list {
+		all[i] = None
+		if event.Kind == api.Read && reads < len(from) {
+			all[i] = from[reads]
+			reads++
+		}
+	}
+	return all
+}

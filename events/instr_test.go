@@ -1,6 +1,7 @@
 package events
 
 import (
+	"fmt"
 	"testing"
 
 	"litmus/api"
@@ -34,6 +35,25 @@ func TestInstrOf(t *testing.T) {
 	} {
 		if got := InstrOf(threads, api.Event{Thread: c.thread, Place: c.place}); got.Op != c.want {
 			t.Errorf("InstrOf thread %d, place %d = %v, want Op %d", c.thread, c.place, got, c.want)
+		}
+	}
+}
+
+func TestSources(t *testing.T) {
+	// 0 W, 1 R, 2 R, 3 W; 4 Start, 5 Finish, 6 R
+	list := List([][]api.Instr{{{Op: api.Store}, {Op: api.Load}, {Op: api.Swap}}, {{Op: api.Sync}, {Op: api.Load}}})
+	for _, c := range []struct {
+		from []int
+		want string
+	}{
+		{[]int{0, 3, None}, "[-1 0 3 -1 -1 -1 -1]"},
+		{[]int{None, None, 0}, "[-1 -1 -1 -1 -1 -1 0]"},
+		{[]int{0, 3}, "[-1 0 3 -1 -1 -1 -1]"},
+		{[]int{0, 3, 0, 3}, "[-1 0 3 -1 -1 -1 0]"},
+		{nil, "[-1 -1 -1 -1 -1 -1 -1]"},
+	} {
+		if got := fmt.Sprint(Sources(list, c.from)); got != c.want {
+			t.Errorf("Sources of %v = %s, want %s", c.from, got, c.want)
 		}
 	}
 }

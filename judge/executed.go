@@ -3,22 +3,7 @@ package judge
 import (
 	"litmus/api"
 	"litmus/arrows"
-	"litmus/events"
 )
-
-// sources tells, event by event, from which Write it reads; events.None if it is no Read, or reads what was held at first.
-func sources(list []api.Event, from []int) []int {
-	all := make([]int, len(list))
-	reads := 0
-	for i, event := range list {
-		all[i] = events.None
-		if event.Kind == api.Read && reads < len(from) {
-			all[i] = from[reads]
-			reads++
-		}
-	}
-	return all
-}
 
 // ranks tells, event by event, of a Write its place in its location's list, from 1 on, and of a Read the rank of what it reads from; what was held at first has rank 0. So a Write stands behind another one, or behind what a Read reads from, if its rank is greater.
 func ranks(list []api.Event, from []int, order [][]int) []int {

@@ -1,11 +1,14 @@
 // Package judge: whether an execution is allowed, and if not, why not (P6 to P9, P13).
 package judge
 
-import "litmus/api"
+import (
+	"litmus/api"
+	"litmus/events"
+)
 
 // Of judges an execution. list: the events of the threads; x must be an execution of them.
 func Of(threads [][]api.Instr, list []api.Event, x api.Exec) int {
-	from := sources(list, x.From)
+	from := events.Sources(list, x.From)
 	rank := ranks(list, from, x.Order)
 	if isIncoherent(list, from, rank) {
 		return api.Incoherent

@@ -101,6 +101,18 @@ func TestErrorsAnswerNothingElse(t *testing.T) {
 			if j, e := litmus.Judge(x, c); e != want || j != 0 {
 				t.Errorf("P1, P6: %v: Judge of %v = %d, %d, want %d", x, c, j, e, want)
 			}
+			if l, e := litmus.State(x, c); e != want || l != nil {
+				t.Errorf("P1, P10: %v: State of %v = %v, %d, want %d", x, c, l, e, want)
+			}
+		}
+		if l, e := litmus.Outcomes(x); e != want || l != nil {
+			t.Errorf("P1, P11: %v: Outcomes = %v, %d, want %d", x, l, e, want)
+		}
+		if r, e := litmus.Verdict(x); e != want || r != (api.Report{}) {
+			t.Errorf("P1, P12: %v: Verdict = %v, %d, want %d", x, r, e, want)
+		}
+		if n, c, e := litmus.Witness(x); e != want || n != 0 || c.From != nil || c.Order != nil {
+			t.Errorf("P1, P12: %v: Witness = %d, %v, %d, want %d", x, n, c, e, want)
 		}
 	}
 	if refused < 500 {

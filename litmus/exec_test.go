@@ -143,13 +143,15 @@ func TestJudgeTakesExecutionsAlone(t *testing.T) {
 	}
 }
 
-// The error of Check comes ahead of ErrExec, and is told of executions that would be well, too.
-func TestJudgeTellsErrorsOfCheck(t *testing.T) {
-	empty := exec(nil, nil, nil, nil)
-	for _, c := range []struct {
-		x    api.Test
-		want api.Errno
-	}{
+// refusedTest: a test that Check refuses, and with which error.
+type refusedTest struct {
+	x    api.Test
+	want api.Errno
+}
+
+// refusedTests: one or two tests for each error of Check.
+func refusedTests() []refusedTest {
+	return []refusedTest{
 		{api.Test{}, api.ErrSize},
 		{threads(times(13, full)), api.ErrSize},
 		{threads(code{wrong}), api.ErrInstr},
@@ -157,7 +159,13 @@ func TestJudgeTellsErrorsOfCheck(t *testing.T) {
 		{threads(code{enter}), api.ErrNest},
 		{asking(threads(nil), api.Atom{Val: 4}), api.ErrCond},
 		{threads(code{sync, sync, sync}), api.ErrMany},
-	} {
+	}
+}
+
+// The error of Check comes ahead of ErrExec, and is told of executions that would be well, too.
+func TestJudgeTellsErrorsOfCheck(t *testing.T) {
+	empty := exec(nil, nil, nil, nil)
+	for _, c := range refusedTests() {
 		for _, x := range append(wildExecs(), empty) {
 			if j, e := litmus.Judge(c.x, x); j != 0 || e != c.want {
 				t.Errorf("P6: %v: Judge of %v = %d, %d, want %d", c.x, x, j, e, c.want)

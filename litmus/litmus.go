@@ -7,6 +7,9 @@ import (
 	"litmus/check"
 	"litmus/events"
 	"litmus/judge"
+	"litmus/outcomes"
+	"litmus/state"
+	"litmus/verdict"
 )
 
 // Check tells whether a test may be, and where it may not (P3).
@@ -58,13 +61,45 @@ func Judge(t api.Test, x api.Exec) (int, api.Errno) {
 }
 
 // State tells what registers and locations hold behind an allowed execution (P10).
-func State(t api.Test, x api.Exec) ([]int, api.Errno) { return nil, api.OK }
+func State(t api.Test, x api.Exec) ([]int, api.Errno) {
+	judgement, err := Judge(t, x)
+	if err != api.OK {
+		return nil, err
+	}
+	if judgement != api.Allowed {
+		return nil, api.ErrForbidden
+	}
+	list := events.List(t.Threads)
+	return state.Of(t.Threads, list, x), api.OK
+}
 
 // Outcomes tells all that can come out (P11).
-func Outcomes(t api.Test) ([]api.Outcome, api.Errno) { return nil, api.OK }
+func Outcomes(t api.Test) ([]api.Outcome, api.Errno) {
+	fault := check.Find(t)
+	if fault.Err != api.OK {
+		return nil, fault.Err
+	}
+	list := events.List(t.Threads)
+	return outcomes.Of(t.Threads, list), api.OK
+}
 
 // Verdict tells whether the condition holds (P12).
-func Verdict(t api.Test) (api.Report, api.Errno) { return api.Report{}, api.OK }
+func Verdict(t api.Test) (api.Report, api.Errno) {
+	fault := check.Find(t)
+	if fault.Err != api.OK {
+		return api.Report{}, fault.Err
+	}
+	list := events.List(t.Threads)
+	return verdict.Of(t, list), api.OK
+}
 
 // Witness shows the first candidate that decides (P12).
-func Witness(t api.Test) (int, api.Exec, api.Errno) { return 0, api.Exec{}, api.OK }
+func Witness(t api.Test) (int, api.Exec, api.Errno) {
+	fault := check.Find(t)
+	if fault.Err != api.OK {
+		return 0, api.Exec{}, fault.Err
+	}
+	list := events.List(t.Threads)
+	one := verdict.Witness(t, list)
+	return one.Number, one.Exec, api.OK
+}
