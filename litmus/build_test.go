@@ -74,6 +74,7 @@ func samples() []api.Test {
 		threads(code{swap(0, 2, 1), load(1, 2)}, code{copyTo(2, 1)}),
 		threads(code{load(0, 0), copyTo(1, 0)}, code{load(0, 1), copyTo(0, 0)}),
 		threads(code{enter, load(0, 0), load(1, 1), leave}, code{store(0, 1), sync, store(1, 1)}),
+		threads(code{enter, load(0, 0), leave, enter, load(1, 1), leave}, code{store(0, 1), sync, store(1, 1)}, code{enter, load(0, 1), load(1, 0), leave, sync}),
 		threads(code{store(2, 1), store(0, 2), load(0, 0)}, code{store(0, 1), load(0, 2)}, code{store(2, 2), store(1, 3)}, code{load(0, 1)}),
 		threads(code{load(0, 2), load(0, 1), load(0, 0)}, code{store(0, 1), store(1, 1), store(2, 1)}, code{store(2, 2), store(1, 2)}),
 		threads(times(10, load(0, 1)), code{store(1, 1)}),

@@ -70,22 +70,33 @@ type ends struct {
 	witness int
 }
 
-// endsOf goes through the candidates that Judge allows, and compares State on the way.
-func endsOf(t *testing.T, x api.Test) ends {
-	t.Helper()
-	all := ends{many: map[string]int{}, witness: -1}
-	events := eventsOf(x)
+// judgements tells what Judge answers of each candidate.
+func judgements(x api.Test) []int {
+	var l []int
 	size, _ := litmus.Size(x)
 	for n := 0; n < size; n++ {
 		c, _ := litmus.Candidate(x, n)
-		if j, _ := litmus.Judge(x, c); j != allowed {
+		j, _ := litmus.Judge(x, c)
+		l = append(l, j)
+	}
+	return l
+}
+
+// endsOf goes through the candidates, of which it is told how they are to be judged, and compares State on the way.
+func endsOf(t *testing.T, x api.Test, judgement []int) ends {
+	t.Helper()
+	all := ends{many: map[string]int{}, witness: -1}
+	events := eventsOf(x)
+	what := fmt.Sprint(x.Threads)
+	for n, j := range judgement {
+		c, _ := litmus.Candidate(x, n)
+		if j != allowed {
+			notStated(t, what, x, c, api.ErrForbidden)
 			continue
 		}
 		r := newTrial(x, events, c)
 		want := r.state()
-		if l, e := litmus.State(x, c); fmt.Sprint(l) != fmt.Sprint(want) || e != api.OK {
-			t.Errorf("P10: %v: State of %v = %v, %d, want %v", x.Threads, c, l, e, want)
-		}
+		stated(t, what, x, c, want...)
 		all.many[fmt.Sprint(want)]++
 		holds := r.holds()
 		if holds {
@@ -126,10 +137,10 @@ func (all ends) verdict(forall bool) api.Report {
 	return r
 }
 
-// sameEnds compares all that comes out of a test, and tells its Verdict.
-func sameEnds(t *testing.T, x api.Test) int {
+// sameEnds compares all that comes out of a test whose candidates are to be judged so, and tells its Verdict.
+func sameEnds(t *testing.T, x api.Test, judgement []int) int {
 	t.Helper()
-	all := endsOf(t, x)
+	all := endsOf(t, x, judgement)
 	if l, e := litmus.Outcomes(x); fmt.Sprint(l) != fmt.Sprint(all.outcomes()) || e != api.OK {
 		t.Errorf("P11: %v: Outcomes = %v, %d, want %v", x.Threads, l, e, all.outcomes())
 	}
@@ -148,7 +159,7 @@ func sameEnds(t *testing.T, x api.Test) int {
 func TestEndsOfSamples(t *testing.T) {
 	for i, x := range append(samples(), asked(samples())...) {
 		x.Forall = i%2 == 0
-		sameEnds(t, x)
+		sameEnds(t, x, judgements(x))
 	}
 }
 
@@ -186,7 +197,7 @@ func compareEnds(t *testing.T, row numbers, tests int, atLeast int, next func(n 
 		x.Forall = row.below(2) == 1
 		x.Cond = row.cond(x)
 		if size, e := litmus.Size(x); e == api.OK && size <= 800 {
-			many[sameEnds(t, x)]++
+			many[sameEnds(t, x, judgements(x))]++
 		}
 	}
 	for verdict, n := range many {
@@ -199,7 +210,44 @@ func compareEnds(t *testing.T, row numbers, tests int, atLeast int, next func(n 
 func TestEndsOfManyTests(t *testing.T) {
 	compareEnds(t, 11, 1500, 60, func(n *numbers) api.Test { return n.test(true) })
 	compareEnds(t, 12, 1500, 60, func(n *numbers) api.Test { return n.test(false) })
-	compareEnds(t, 13, 300, 20, func(n *numbers) api.Test { return threads(n.inSection(), n.aroundSync()) })
+}
+
+// What is Spanning is told by the second, slow judge, so that nothing here stands on Judge.
+func TestEndsOfManySections(t *testing.T) {
+	row := numbers(15)
+	var many [5]int
+	for i := 0; i < 1000 && !t.Failed(); i++ {
+		x := threads(row.inSection(), row.aroundSync())
+		if i%2 == 0 {
+			x.Threads = append(x.Threads, row.inSection())
+		}
+		x.Forall = row.below(2) == 1
+		x.Cond = row.cond(x)
+		size, e := litmus.Size(x)
+		if e != api.OK || size > 100 {
+			continue
+		}
+		want := slowJudgements(x)
+		for _, j := range want {
+			many[j]++
+		}
+		sameEnds(t, x, want)
+	}
+	if many[allowed] < 1000 || many[circular] < 100 || many[spanning] < 200 {
+		t.Errorf("only so many executions of each kind: %v", many)
+	}
+}
+
+// slowJudgements tells what Judge must answer of each candidate.
+func slowJudgements(x api.Test) []int {
+	var l []int
+	events := eventsOf(x)
+	size, _ := litmus.Size(x)
+	for n := 0; n < size; n++ {
+		c, _ := litmus.Candidate(x, n)
+		l = append(l, newTrial(x, events, c).judge())
+	}
+	return l
 }
 
 // chain tells a thread that takes from a location and gives to another one, by turns.

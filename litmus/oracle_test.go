@@ -200,12 +200,13 @@ func (r trial) choices() [][2][2]int {
 
 func (r trial) spanning() bool {
 	l := r.choices()
+	kept := r.kept()
 	for n := 0; n < 1<<len(l); n++ {
-		g := r.kept()
+		var chosen [][2]int
 		for i := range l {
-			g = g.with(l[i][n>>i&1])
+			chosen = append(chosen, l[i][n>>i&1])
 		}
-		if !g.hasCircle() {
+		if !kept.with(chosen...).hasCircle() {
 			return false
 		}
 	}
@@ -344,6 +345,45 @@ func TestJudgeOfManySections(t *testing.T) {
 	compareMany(t, 5, 400, [5]int{1000, 1000, 0, 50, 200}, func(n *numbers) api.Test {
 		return threads(n.aroundSync(), n.inSection(), n.aroundSync(), n.inSection())
 	})
+}
+
+// Up to three sections and two Syncs, in threads that make a ring.
+func TestJudgeOfManyRings(t *testing.T) {
+	compareMany(t, 6, 1500, [5]int{1000, 0, 0, 0, 150}, func(n *numbers) api.Test {
+		x := threads(n.link(0, 1), n.link(1, 2), n.link(2, 0))
+		if n.below(2) == 0 {
+			x.Threads = append(x.Threads, n.marked(nil, nil))
+		}
+		return x
+	})
+}
+
+// link tells a thread that stores to a location and loads from the next one, with marks around.
+func (n *numbers) link(loc int, next int) code {
+	a, b := store(loc, 1), load(0, next)
+	if n.below(4) == 0 {
+		a, b = b, a
+	}
+	return n.marked(code{a}, code{b})
+}
+
+// marked lays sections and Syncs around two parts of a thread.
+func (n *numbers) marked(a code, b code) code {
+	switch n.below(8) {
+	case 0:
+		return join(code{enter}, a, code{leave, sync}, b)
+	case 1:
+		return join(a, code{sync, enter}, b, code{leave})
+	case 2:
+		return join(a, code{sync, sync}, b)
+	case 3:
+		return join(a, code{sync}, b)
+	case 4:
+		return join(a, code{enter, leave}, b)
+	case 5:
+		return join(code{enter}, a, code{leave, enter}, b, code{leave})
+	}
+	return join(code{enter}, a, b, code{leave})
 }
 
 // some tells a Load or a Store, seldom with a mode.

@@ -291,29 +291,38 @@ func spoil(x api.Test, c api.Exec) {
 
 // An execution that is overwritten after Judge and State have seen it changes no later answer.
 func TestNoExecutionHandedInIsKept(t *testing.T) {
-	x := threads(code{swap(0, 0, 1)}, code{swap(0, 0, 2)})
-	want := []int{torn, torn, allowed, incoherent}
+	swaps := threads(code{swap(0, 0, 1)}, code{swap(0, 0, 2)})
+	section := threads(look(), publish())
 	for round := 0; round < 2; round++ {
-		for n := range want {
-			c, _ := litmus.Candidate(x, n)
-			if j, e := litmus.Judge(x, c); j != want[n] || e != api.OK {
-				t.Errorf("P2: Judge of candidate %d = %d, %d, want %d", n, j, e, want[n])
-			}
-			if l, e := litmus.State(x, c); (e == api.OK) != (want[n] == allowed) {
-				t.Errorf("P2: State of candidate %d = %v, %d", n, l, e)
-			}
-			for i := range c.From {
-				c.From[i] = 99
-			}
-			c.Order[0][0] = 99
-			c.Order[2] = []int{99}
-			if j, e := litmus.Judge(x, c); j != 0 || e != api.ErrExec {
-				t.Errorf("P2: Judge of an overwritten candidate = %d, %d, want ErrExec", j, e)
-			}
-			if l, e := litmus.State(x, c); l != nil || e != api.ErrExec {
-				t.Errorf("P2: State of an overwritten candidate = %v, %d, want ErrExec", l, e)
-			}
+		for n, want := range []int{torn, torn, allowed, incoherent} {
+			judgedAndSpoilt(t, swaps, n, want)
 		}
+		for n, want := range []int{allowed, spanning, allowed, allowed} {
+			judgedAndSpoilt(t, section, n, want)
+		}
+	}
+}
+
+// judgedAndSpoilt compares Judge and State of a candidate, and then of the same lists with other entries.
+func judgedAndSpoilt(t *testing.T, x api.Test, n int, want int) {
+	t.Helper()
+	c, _ := litmus.Candidate(x, n)
+	if j, e := litmus.Judge(x, c); j != want || e != api.OK {
+		t.Errorf("P2: Judge of candidate %d = %d, %d, want %d", n, j, e, want)
+	}
+	if l, e := litmus.State(x, c); (e == api.OK) != (want == allowed) {
+		t.Errorf("P2: State of candidate %d = %v, %d", n, l, e)
+	}
+	for i := range c.From {
+		c.From[i] = 99
+	}
+	c.Order[0][0] = 99
+	c.Order[2] = []int{99}
+	if j, e := litmus.Judge(x, c); j != 0 || e != api.ErrExec {
+		t.Errorf("P2: Judge of an overwritten candidate = %d, %d, want ErrExec", j, e)
+	}
+	if l, e := litmus.State(x, c); l != nil || e != api.ErrExec {
+		t.Errorf("P2: State of an overwritten candidate = %v, %d, want ErrExec", l, e)
 	}
 }
 
